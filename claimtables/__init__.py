@@ -1,0 +1,1 @@
+"""Tables and claims: what holds, and which rows break it."""
