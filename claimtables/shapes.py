@@ -60,6 +60,13 @@ def is_claim(tree):
     return head == "groups" and is_groups(tree)
 
 
+def is_closed(claim):
+    """Whether a claim is closed."""
+    if claim[0] == "refers":
+        return claim[3] != claim[1]
+    return claim[0] in ("each", "pairs", "key", "fixes")
+
+
 def own_columns(claim):
     """The names of the columns of its own table that a claim names."""
     if has_condition(claim[0]):

@@ -42,9 +42,35 @@ def breakers(k):
     return [6, k]
 
 
+def marks(k):
+    return [7, k]
+
+
+def alone(k, numbers):
+    return [8, k, len(numbers), *numbers]
+
+
+def closed(k):
+    return [9, k]
+
+
+def shown(name):
+    return [10] + row(name)
+
+
+def test(i, j, name, text):
+    return [11, i, j] + row(name) + row(text)
+
+
+def size():
+    return [12]
+
+
 def line(*calls):
-    """The calls as the one list that is handed in."""
-    return [number for call in calls for number in call]
+    """The calls as the one list that is handed in, no longer than the interface allows."""
+    numbers = [number for call in calls for number in call]
+    assert 1 <= len(calls) <= 60 and len(numbers) <= 16900, (len(calls), len(numbers))
+    return numbers
 
 
 def parted(numbers):

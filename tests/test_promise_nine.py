@@ -4,7 +4,7 @@ import itertools
 import random
 import unittest
 
-from lines import broken, check, claim, run, table
+from lines import alone, breakers, broken, check, claim, closed, marks, run, sets, table, test
 
 HEAD = "(table t ((a (up 3) maybe) (b (of x y) maybe) (c (up 4)))"
 OTHER = "(table u ((d (up 3) maybe) (e (of x y) maybe)) (1 x) (2 ()) (() y) (0 y))"
@@ -67,34 +67,66 @@ def with_rows(lines):
     return HEAD + " " + " ".join(lines) + ")"
 
 
+def subsets(count):
+    return [fewer for many in range(count + 1) for fewer in itertools.combinations(range(count), many)]
+
+
 class PromiseNine(unittest.TestCase):
     def looked_at(self, source):
         lines = [a_row(source) for k in range(source.randrange(6))]
-        text, closed, groups = a_claim(source)
-
-        def alone(chosen):
-            return len(broken([with_rows([lines[k] for k in chosen]), OTHER], text))
-
-        everything = broken([with_rows(lines), OTHER], text)
-        self.assertEqual(run(table(with_rows(lines)), table(OTHER), claim(text), check())[-1], [1, len(everything)])
+        text, is_closed, groups = a_claim(source)
+        chosen = subsets(len(lines))
+        found = run(table(with_rows(lines)), table(OTHER), claim(text), check(), breakers(0), marks(0), closed(0),
+                    *[alone(0, each) for each in chosen], check())
+        everything = sets(found[4])
+        self.assertEqual(found[3], [1, len(everything)])
+        self.assertEqual(found[-1], found[3])
         self.assertEqual(everything, sorted(everything, key=lambda each: each[:1] if groups else each))
+        self.assertEqual(found[6], [1 if is_closed else 0], text)
+        with_these = {each: answer[0] for each, answer in zip(chosen, found[7:-1], strict=True)}
+        self.assertEqual(with_these[tuple(range(len(lines)))], len(everything))
+        self.marked(everything, found[5])
+        self.broken_alone(everything, with_these, groups, (text, lines))
+        if is_closed and not everything:
+            self.assertEqual(set(with_these.values()), {0}, (text, lines))
+        for each in source.sample(chosen, min(3, len(chosen))):
+            fewer = broken([with_rows([lines[k] for k in each]), OTHER], text)
+            self.assertEqual(with_these[each], len(fewer), (text, lines, each))
+        return text.split()[0], len(everything) > 0
+
+    def broken_alone(self, everything, with_these, groups, told):
         for breaker in everything:
             self.assertEqual(breaker, sorted(set(breaker)))
-            self.assertGreater(alone(breaker), 0, (text, lines))
-            for size in range(0 if groups else len(breaker)):
-                for fewer in itertools.combinations(breaker, size):
-                    self.assertEqual(alone(fewer), 0, (text, lines))
-        if closed and not everything:
-            for size in range(len(lines)):
-                for fewer in itertools.combinations(range(len(lines)), size):
-                    self.assertEqual(alone(fewer), 0, (text, lines))
-        return text.split()[0], len(everything) > 0
+            self.assertGreater(with_these[tuple(breaker)], 0, told)
+            for many in range(0 if groups else len(breaker)):
+                for fewer in itertools.combinations(breaker, many):
+                    self.assertEqual(with_these[fewer], 0, told)
+
+    def marked(self, everything, answer):
+        pairs = list(zip(answer[1::2], answer[2::2], strict=True))
+        self.assertEqual(len(pairs), answer[0])
+        rows = sorted({k for breaker in everything for k in breaker})
+        self.assertEqual(pairs, [(k, sum(k in breaker for breaker in everything)) for k in rows])
 
     def test_many_claims_on_many_tables(self):
         source = random.Random(20)
         seen = {self.looked_at(source) for k in range(1500)}
         heads = ("each", "any", "pairs", "next", "key", "fixes", "refers", "groups")
         self.assertEqual(seen, {("(" + head, found) for head in heads for found in (True, False)})
+
+    def test_a_condition_is_for_rows_what_it_is_in_claims(self):
+        source = random.Random(8)
+        for k in range(300):
+            lines = [a_row(source) for k in range(4)]
+            text = a_condition(source, ["col"], 2)
+            found = run(table(with_rows(lines)), *[test(i, -1, "t", text) for i in range(4)])[1:]
+            each = [[i] for i in range(4) if found[i] == [0]]
+            self.assertEqual(broken([with_rows(lines)], f"(each t {text})"), each, (text, lines))
+            text = a_condition(source, ["one", "two"], 2)
+            ahead = list(itertools.combinations(range(4), 2))
+            found = run(table(with_rows(lines)), *[test(i, j, "t", text) for i, j in ahead])[1:]
+            pairs = [list(ahead[i]) for i in range(6) if found[i] == [0]]
+            self.assertEqual(broken([with_rows(lines)], f"(pairs t {text})"), pairs, (text, lines))
 
 
 if __name__ == "__main__":
